@@ -1,7 +1,6 @@
 package view
 
 import (
-	"maps"
 	"slices"
 
 	"erasure/api"
@@ -36,92 +35,100 @@ const (
 
 // action is what an operator does: where, with which operands, and how.
 type action struct {
+	name     string
 	place    place
 	operands string
 	run      func(*painter, api.Op) api.Errno
 }
 
-// actions returns all of them by the names of their operators.
-func actions() map[string]action {
-	table := pathActions()
-	maps.Copy(table, textActions())
-	maps.Copy(table, otherActions())
-	return table
+// actions returns all of them.
+func actions() []action {
+	return slices.Concat(pathActions(), textActions(), otherActions())
 }
 
-func otherActions() map[string]action {
-	return map[string]action{
-		"q":  {alone, "", (*painter).save},
-		"Q":  {alone, "", (*painter).restore},
-		"cm": {alone, "nnnnnn", (*painter).transform},
+// find returns the action of a name, and whether there is one.
+func find(table []action, name string) (action, bool) {
+	for _, a := range table {
+		if a.name == name {
+			return a, true
+		}
+	}
+	return action{}, false
+}
 
-		"w":  {notInPath, "n", (*painter).set},
-		"i":  {notInPath, "n", (*painter).set},
-		"M":  {notInPath, "n", (*painter).set},
-		"J":  {notInPath, "n", (*painter).set},
-		"j":  {notInPath, "n", (*painter).set},
-		"g":  {notInPath, "n", (*painter).set},
-		"G":  {notInPath, "n", (*painter).set},
-		"rg": {notInPath, "nnn", (*painter).set},
-		"RG": {notInPath, "nnn", (*painter).set},
-		"k":  {notInPath, "nnnn", (*painter).set},
-		"K":  {notInPath, "nnnn", (*painter).set},
-		"d":  {notInPath, "dn", (*painter).set},
-		"ri": {notInPath, "/", (*painter).set},
+func otherActions() []action {
+	return []action{
+		{"q", alone, "", (*painter).save},
+		{"Q", alone, "", (*painter).restore},
+		{"cm", alone, "nnnnnn", (*painter).transform},
 
-		"Do": {alone, "/", (*painter).image},
-		"BI": {alone, "oo", (*painter).inlineImage},
+		{"w", notInPath, "n", (*painter).set},
+		{"i", notInPath, "n", (*painter).set},
+		{"M", notInPath, "n", (*painter).set},
+		{"J", notInPath, "n", (*painter).set},
+		{"j", notInPath, "n", (*painter).set},
+		{"g", notInPath, "n", (*painter).set},
+		{"G", notInPath, "n", (*painter).set},
+		{"rg", notInPath, "nnn", (*painter).set},
+		{"RG", notInPath, "nnn", (*painter).set},
+		{"k", notInPath, "nnnn", (*painter).set},
+		{"K", notInPath, "nnnn", (*painter).set},
+		{"d", notInPath, "dn", (*painter).set},
+		{"ri", notInPath, "/", (*painter).set},
 
-		"BMC": {anywhere, "/", (*painter).ignore},
-		"MP":  {anywhere, "/", (*painter).ignore},
-		"BDC": {anywhere, "/o", (*painter).ignore},
-		"DP":  {anywhere, "/o", (*painter).ignore},
-		"EMC": {anywhere, "", (*painter).ignore},
+		{"Do", alone, "/", (*painter).image},
+		{"BI", alone, "oo", (*painter).inlineImage},
+
+		{"BMC", anywhere, "/", (*painter).ignore},
+		{"MP", anywhere, "/", (*painter).ignore},
+		{"BDC", anywhere, "/o", (*painter).ignore},
+		{"DP", anywhere, "/o", (*painter).ignore},
+		{"EMC", anywhere, "", (*painter).ignore},
 	}
 }
 
-func pathActions() map[string]action {
-	return map[string]action{
-		"m":    {pathBegin, "nn", (*painter).draw},
-		opRect: {pathBegin, "nnnn", (*painter).draw},
-		"l":    {pathStep, "nn", (*painter).draw},
-		"c":    {pathStep, "nnnnnn", (*painter).draw},
-		"v":    {pathStep, "nnnn", (*painter).draw},
-		"y":    {pathStep, "nnnn", (*painter).draw},
-		"h":    {pathStep, "", (*painter).draw},
+func pathActions() []action {
+	return []action{
+		{"m", pathBegin, "nn", (*painter).draw},
+		{opRect, pathBegin, "nnnn", (*painter).draw},
+		{"l", pathStep, "nn", (*painter).draw},
+		{"c", pathStep, "nnnnnn", (*painter).draw},
+		{"v", pathStep, "nnnn", (*painter).draw},
+		{"y", pathStep, "nnnn", (*painter).draw},
+		{"h", pathStep, "", (*painter).draw},
 
-		"S":  {pathPaint, "", (*painter).paint},
-		"s":  {pathPaint, "", (*painter).paint},
-		"f":  {pathPaint, "", (*painter).paint},
-		"F":  {pathPaint, "", (*painter).paint},
-		"f*": {pathPaint, "", (*painter).paint},
-		"B":  {pathPaint, "", (*painter).paint},
-		"B*": {pathPaint, "", (*painter).paint},
-		"b":  {pathPaint, "", (*painter).paint},
-		"b*": {pathPaint, "", (*painter).paint},
-		"n":  {pathDrop, "", (*painter).drop},
+		{"S", pathPaint, "", (*painter).paint},
+		{"s", pathPaint, "", (*painter).paint},
+		{"f", pathPaint, "", (*painter).paint},
+		{"F", pathPaint, "", (*painter).paint},
+		{"f*", pathPaint, "", (*painter).paint},
+		{"B", pathPaint, "", (*painter).paint},
+		{"B*", pathPaint, "", (*painter).paint},
+		{"b", pathPaint, "", (*painter).paint},
+		{"b*", pathPaint, "", (*painter).paint},
+		{"n", pathDrop, "", (*painter).drop},
 	}
 }
 
-func textActions() map[string]action {
-	return map[string]action{
-		"BT": {alone, "", (*painter).beginText},
-		"ET": {inText, "", (*painter).endText},
-		"Tc": {notInPath, "n", (*painter).setChar},
-		"Tw": {notInPath, "n", (*painter).setWord},
-		"Tz": {notInPath, "n", (*painter).setScale},
-		"TL": {notInPath, "n", (*painter).setLead},
-		"Ts": {notInPath, "n", (*painter).setRise},
-		"Tr": {notInPath, "n", (*painter).setMode},
-		"Tf": {notInPath, "/n", (*painter).setFont},
-		"Td": {inText, "nn", (*painter).moveLine},
-		"TD": {inText, "nn", (*painter).leadLine},
-		"Tm": {inText, "nnnnnn", (*painter).placeText},
-		"T*": {inText, "", (*painter).nextLine},
-		"Tj": {inText, "s", (*painter).showText},
-		"'":  {inText, "s", (*painter).showLine},
-		"\"": {inText, "nns", (*painter).showSpaced},
-		"TJ": {inText, "l", (*painter).showParts},
+func textActions() []action {
+	return []action{
+		{"BT", alone, "", (*painter).beginText},
+		{"ET", inText, "", (*painter).endText},
+		{"Tc", notInPath, "n", (*painter).setChar},
+		{"Tw", notInPath, "n", (*painter).setWord},
+		{"Tz", notInPath, "n", (*painter).setScale},
+		{"TL", notInPath, "n", (*painter).setLead},
+		{"Ts", notInPath, "n", (*painter).setRise},
+		{"Tr", notInPath, "n", (*painter).setMode},
+		{"Tf", notInPath, "/n", (*painter).setFont},
+		{"Td", inText, "nn", (*painter).moveLine},
+		{"TD", inText, "nn", (*painter).leadLine},
+		{"Tm", inText, "nnnnnn", (*painter).placeText},
+		{"T*", inText, "", (*painter).nextLine},
+		{"Tj", inText, "s", (*painter).showText},
+		{"'", inText, "s", (*painter).showLine},
+		{"\"", inText, "nns", (*painter).showSpaced},
+		{"TJ", inText, "l", (*painter).showParts},
 	}
 }
 

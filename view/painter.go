@@ -43,7 +43,7 @@ func newPainter(fonts []api.Named) *painter {
 func (p *painter) all(l []api.Op) api.Errno {
 	table := actions()
 	for _, o := range l {
-		a, found := table[o.Name]
+		a, found := find(table, o.Name)
 		if !found {
 			return api.ErrKind
 		}
