@@ -1,22 +1,14 @@
 package session
 
 import (
-	"sync"
-
 	"erasure/api"
 	"erasure/save"
 )
 
-// redacted is a page that was processed.
-type redacted struct {
-	index int
-	page  api.Page
-}
-
-// failure is a page that could not be processed.
-type failure struct {
-	index int
-	e     api.Errno
+// worker processes a page, and sends what becomes of it on one of its channels.
+type worker struct {
+	done   chan api.Page
+	failed chan api.Errno
 }
 
 // View returns the redacted pages of l.
@@ -42,38 +34,43 @@ func View(l []api.Page, regions []api.Region, covers bool) ([]api.Page, api.Errn
 	return pages, api.OK
 }
 
-// redactAll processes all pages side by side. What is received is kept by the places of the pages, since it comes in any order.
+// redactAll processes all pages side by side, and returns them, or the error of the first one that has one.
 func redactAll(l []api.Page, regions []api.Region, covers bool) ([]api.Page, api.Errno) {
-	done, failed := make(chan redacted), make(chan failure)
-	var workers sync.WaitGroup
+	var workers []worker
 	for i, p := range l {
-		workers.Add(1)
-		go func() {
-			defer workers.Done()
-			page, e := redact(p, boxesOf(regions, i), covers)
-			if e != api.OK {
-				failed <- failure{i, e}
-				return
-			}
-			done <- redacted{i, page}
-		}()
+		workers = append(workers, start(p, boxesOf(regions, i), covers))
 	}
-	pages, errors := make([]api.Page, len(l)), make([]api.Errno, len(l))
-	for range l {
+	var pages []api.Page
+	first := api.OK
+	// Also behind an error all workers are waited for.
+	for _, w := range workers {
 		select {
-		case x := <-done:
-			pages[x.index] = x.page
-		case x := <-failed:
-			errors[x.index] = x.e
+		case p := <-w.done:
+			pages = append(pages, p)
+		case e := <-w.failed:
+			if first == api.OK {
+				first = e
+			}
 		}
 	}
-	workers.Wait()
-	for _, e := range errors {
-		if e != api.OK {
-			return nil, e
-		}
+	if first != api.OK {
+		return nil, first
 	}
 	return pages, api.OK
+}
+
+// start begins to process a page.
+func start(p api.Page, boxes []api.Box, covers bool) worker {
+	w := worker{done: make(chan api.Page), failed: make(chan api.Errno)}
+	go func() {
+		out, e := redact(p, boxes, covers)
+		if e != api.OK {
+			w.failed <- e
+			return
+		}
+		w.done <- out
+	}()
+	return w
 }
 
 // boxesOf returns the boxes of the regions of a page.
